@@ -1,0 +1,202 @@
+package tailor
+
+import (
+	"fmt"
+	"math"
+	"reflect"
+	"strings"
+	"testing"
+
+	"tailor/api"
+)
+
+// odd tables: what nobody should hand in, and what is at the bounds.
+func oddTables() []api.Table {
+	numbers := []int{math.MinInt, math.MinInt + 1, -251, -1, 0, 1, 8, 250, 251, 256, math.MaxInt}
+	l := []api.Table{
+		{}, sample(), overlapping(),
+		{Nodes: make([]api.Node, 1000)}, {Entries: make([]api.Entry, 1000)},
+		{Entries: make([]api.Entry, api.MaxEntries)},
+		tableOf(manyNodes(api.MaxNodes), manyEntries(api.MaxEntries)...),
+		tableOf(manyNodes(1), entry("a")), tableOf(manyNodes(1), entry("")), tableOf(manyNodes(1), entry("", 0)),
+		tableOf(manyNodes(1), entry(strings.Repeat("a", 100000), 0)),
+		tableOf(manyNodes(1), entry("a", make([]int, 100000)...)),
+	}
+	for _, n := range numbers {
+		l = append(l, tableOf([]api.Node{node(n, 8, 8)}, entry("a", 0)), tableOf([]api.Node{node(0, n, 8)}, entry("a", 0)), tableOf([]api.Node{node(0, 0, n)}, entry("a", 0)))
+		l = append(l, tableOf(manyNodes(2), entry("a", n)), tableOf(manyNodes(2), entry("a", 0, 1, 0, n)), tableOf(nil, entry("a", n)))
+	}
+	return l
+}
+
+func oddTexts() []string {
+	return []string{
+		"", "a", "'", "ab", "abc", "d", "\x00", "\xff\xff", "ä", "a\xc3",
+		strings.Repeat("a", api.MaxText-1), strings.Repeat("a", api.MaxText), strings.Repeat("a", api.MaxText+1),
+		strings.Repeat("\xff", api.MaxText), strings.Repeat("abc", 100000),
+	}
+}
+
+func oddLevels() []int { return []int{math.MinInt, -1, 0, 1, 2, 3, 4, 250, math.MaxInt} }
+
+// answers calls all that compare and cut, and lays what they answer in a list.
+func answers(x api.Table, a, b string, level int) []string {
+	l, pe := Pieces(x, a)
+	n, ce := Compare(x, a, b, level)
+	k, ke := Key(x, a, level)
+	return []string{fmt.Sprint(Valid(x)), fmt.Sprintf("%q %d", l, pe), fmt.Sprint(n, ce), fmt.Sprintf("%q %d", k, ke)}
+}
+
+// firstError tells the error that the document names first among those that
+// apply to Compare; with a the same as b those of Key.
+func firstError(x api.Table, a, b string, level int) api.Errno {
+	if e := Valid(x); e != api.OK {
+		return e
+	}
+	if len(a) > api.MaxText || len(b) > api.MaxText {
+		return api.ErrLong
+	}
+	if level != 1 && level != 2 && level != 3 {
+		return api.ErrLevel
+	}
+	_, okA := plainPieces(x, a)
+	_, okB := plainPieces(x, b)
+	if !okA || !okB {
+		return api.ErrText
+	}
+	return api.OK
+}
+
+// TestEveryCallEndsP1: at odd arguments each call ends with the error that is
+// named first, and with an error there is no other result.
+func TestEveryCallEndsP1(t *testing.T) {
+	for _, x := range oddTables() {
+		for _, a := range oddTexts() {
+			if l, e := Pieces(x, a); e != firstError(x, a, a, 1) || e != api.OK && len(l) > 0 {
+				t.Errorf("P1: Pieces(%.200v, %.30q) = %q, %d", x, a, l, e)
+			}
+			for _, level := range oddLevels() {
+				if k, e := Key(x, a, level); e != firstError(x, a, a, level) || e != api.OK && k != "" {
+					t.Errorf("P1: Key(%.200v, %.30q, %d) = %x, %d", x, a, level, k, e)
+				}
+				for _, b := range oddTexts() {
+					if n, e := Compare(x, a, b, level); e != firstError(x, a, b, level) || e != api.OK && n != 0 {
+						t.Errorf("P1: Compare(%.200v, %.30q, %.30q, %d) = %d, %d", x, a, b, level, n, e)
+					}
+				}
+			}
+		}
+	}
+}
+
+// TestAnswersHangOnArgumentsAloneP2: whatever was asked in between, the same
+// arguments have the same answers.
+func TestAnswersHangOnArgumentsAloneP2(t *testing.T) {
+	var first [][]string
+	for round := range 3 {
+		i := 0
+		for _, x := range []api.Table{sample(), overlapping(), {}, tableOf([]api.Node{{}})} {
+			for _, a := range []string{"", "a", "ab", "abc", "a'b", "d"} {
+				for _, level := range []int{0, 1, 2, 3} {
+					l := answers(x, a, "a", level)
+					if round == 0 {
+						first = append(first, l)
+					} else if !reflect.DeepEqual(l, first[i]) {
+						t.Errorf("P2: %q on level %d: %q, before %q", a, level, l, first[i])
+					}
+					i++
+				}
+			}
+		}
+	}
+}
+
+// roomy gives a copy of a table with spare room behind each list, filled with
+// marks.
+func roomy(x api.Table) api.Table {
+	nodes := append(append([]api.Node{}, x.Nodes...), node(91, 92, 93), node(94, 95, 96))
+	var entries []api.Entry
+	for _, e := range x.Entries {
+		numbers := append(append([]int{}, e.Nodes...), 77, 78)
+		entries = append(entries, api.Entry{Text: e.Text, Nodes: numbers[:len(e.Nodes)]})
+	}
+	entries = append(entries, entry("mark", 99), entry("mark", 98))
+	return api.Table{Nodes: nodes[:len(x.Nodes)], Entries: entries[:len(x.Entries)]}
+}
+
+// whole shows a table with the spare room of its lists.
+func whole(x api.Table) string {
+	entries := x.Entries[:cap(x.Entries)]
+	var b strings.Builder
+	fmt.Fprint(&b, len(x.Nodes), x.Nodes[:cap(x.Nodes)], len(x.Entries))
+	for _, e := range entries {
+		fmt.Fprintf(&b, " %q %d %v", e.Text, len(e.Nodes), e.Nodes[:cap(e.Nodes)])
+	}
+	return b.String()
+}
+
+// TestListsHandedInStayP2: no call writes into a table, nor behind its lists.
+func TestListsHandedInStayP2(t *testing.T) {
+	for _, x := range []api.Table{sample(), overlapping(), {}, tableOf([]api.Node{{}}), tableOf(manyNodes(1), entry("b", 0), entry("a", 0))} {
+		y := roomy(x)
+		before := whole(y)
+		for _, a := range oddTexts() {
+			for _, level := range oddLevels() {
+				answers(y, a, "abc", level)
+			}
+		}
+		if after := whole(y); after != before {
+			t.Errorf("P2: written into:\n%s\nbefore\n%s", after, before)
+		}
+	}
+}
+
+// TestListsAreNotKeptP2: a table that the caller changes after a call has the
+// answers of the changed one.
+func TestListsAreNotKeptP2(t *testing.T) {
+	x := sample()
+	answers(x, "a'b", "b", 3)
+	x.Nodes[1] = node(8, 8, 9)
+	x.Entries[3].Nodes[0] = 4
+	if k, e := Key(x, "ab", 3); k != "\x08\x18\x00\x08\x08\x00\x09\x08" || e != api.OK {
+		t.Errorf("P2: Key after a change: %x, %d", k, e)
+	}
+	x.Entries[4].Text = "d"
+	if l, e := Pieces(x, "ad"); len(l) != 2 || e != api.OK {
+		t.Errorf("P2: Pieces after a change: %q, %d", l, e)
+	}
+}
+
+// TestListsThatComeOutAreNewP2: the caller may write into the pieces, their
+// spare room too, and nothing else changes.
+func TestListsThatComeOutAreNewP2(t *testing.T) {
+	x := sample()
+	for n := range 9 {
+		s := strings.Repeat("ab", n)
+		l, _ := Pieces(x, s)
+		m, _ := Pieces(x, s)
+		scribble(l)
+		if strings.Join(m, "") != s || len(m) != len(s) {
+			t.Errorf("P2: writing into one answer changed another: %q", m)
+		}
+		for _, p := range m[len(m):cap(m)] {
+			if p == "scribble" {
+				t.Errorf("P2: two answers share spare room")
+			}
+		}
+		again, _ := Pieces(x, s)
+		if strings.Join(again, "") != s {
+			t.Errorf("P2: writing into an answer changed a later one: %q", again)
+		}
+	}
+	if !reflect.DeepEqual(x, sample()) {
+		t.Errorf("P2: writing into an answer changed the table: %v", x)
+	}
+}
+
+func scribble(l []string) {
+	l = l[:cap(l)]
+	for i := range l {
+		l[i] = "scribble"
+	}
+}

@@ -39,12 +39,19 @@ func oddTexts() []string {
 
 func oddLevels() []int { return []int{math.MinInt, -1, 0, 1, 2, 3, 4, 250, math.MaxInt} }
 
-// answers calls all that compare and cut, and lays what they answer in a list.
+// answers calls all that a table and texts can be asked, and lays what they
+// answer in a list.
 func answers(x api.Table, a, b string, level int) []string {
 	l, pe := Pieces(x, a)
 	n, ce := Compare(x, a, b, level)
 	k, ke := Key(x, a, level)
-	return []string{fmt.Sprint(Valid(x)), fmt.Sprintf("%q %d", l, pe), fmt.Sprint(n, ce), fmt.Sprintf("%q %d", k, ke)}
+	s, ee := Encode(x)
+	y, de := Decode(s)
+	z, oe := Decode(a)
+	return []string{
+		fmt.Sprint(Valid(x)), fmt.Sprintf("%q %d", l, pe), fmt.Sprint(n, ce), fmt.Sprintf("%q %d", k, ke),
+		fmt.Sprintf("%q %d", s, ee), fmt.Sprint(y, de), fmt.Sprint(z, oe),
+	}
 }
 
 // firstError tells the error that the document names first among those that
@@ -161,6 +168,9 @@ func TestListsAreNotKeptP2(t *testing.T) {
 	if k, e := Key(x, "ab", 3); k != "\x08\x18\x00\x08\x08\x00\x09\x08" || e != api.OK {
 		t.Errorf("P2: Key after a change: %x, %d", k, e)
 	}
+	if s, e := Encode(x); s != tableText(x) || e != api.OK {
+		t.Errorf("P2: Encode after a change: %x, %d", s, e)
+	}
 	x.Entries[4].Text = "d"
 	if l, e := Pieces(x, "ad"); len(l) != 2 || e != api.OK {
 		t.Errorf("P2: Pieces after a change: %q, %d", l, e)
@@ -198,5 +208,80 @@ func scribble(l []string) {
 	l = l[:cap(l)]
 	for i := range l {
 		l[i] = "scribble"
+	}
+}
+
+// rooms shows each list of a table, its spare room too.
+func rooms(x api.Table) []string {
+	l := []string{fmt.Sprint(x.Nodes[:cap(x.Nodes)]), fmt.Sprint(x.Entries[:cap(x.Entries)])}
+	for _, e := range x.Entries {
+		l = append(l, fmt.Sprint(e.Nodes[:cap(e.Nodes)]))
+	}
+	return l
+}
+
+// scribbleNumbers writes into the nodes of an entry, into the spare room too.
+func scribbleNumbers(l []int) {
+	l = l[:cap(l)]
+	for i := range l {
+		l[i] = -77
+	}
+}
+
+// scribbleTable writes into every list of a table, into the spare room too.
+func scribbleTable(x api.Table) {
+	for _, e := range x.Entries {
+		scribbleNumbers(e.Nodes)
+	}
+	nodes := x.Nodes[:cap(x.Nodes)]
+	for i := range nodes {
+		nodes[i] = node(-77, -77, -77)
+	}
+	entries := x.Entries[:cap(x.Entries)]
+	for i := range entries {
+		entries[i] = entry("scribble", -77)
+	}
+}
+
+// TestListsOfATableShareNoRoomP2: of a table that comes out, what is written
+// into one list, or into its spare room, changes no other one.
+func TestListsOfATableShareNoRoomP2(t *testing.T) {
+	for _, s := range []string{sampleText, tableText(overlapping()), tableText(fullTable())} {
+		x, e := Decode(s)
+		if e != api.OK {
+			t.Fatalf("Decode(%x): %d", s, e)
+		}
+		for i, changed := range x.Entries {
+			before := rooms(x)
+			scribbleNumbers(changed.Nodes)
+			after := rooms(x)
+			for k := range before {
+				// The list of entries shows the numbers too.
+				if k != 1 && k != i+2 && before[k] != after[k] {
+					t.Errorf("P2: the nodes of %q share room with list %d: %s, before %s", changed.Text, k, after[k], before[k])
+				}
+			}
+		}
+	}
+}
+
+// TestTablesThatComeOutAreNewP2: the caller may write into a table that came
+// out, and no other answer changes, neither one before nor one behind.
+func TestTablesThatComeOutAreNewP2(t *testing.T) {
+	for _, s := range []string{"\x00\x00", sampleText, tableText(overlapping()), tableText(fullTable())} {
+		x, _ := Decode(s)
+		y, _ := Decode(s)
+		before := whole(y)
+		scribbleTable(x)
+		if after := whole(y); after != before {
+			t.Errorf("P2: writing into one table changed another:\n%s\nbefore\n%s", after, before)
+		}
+		z, e := Decode(s)
+		if tableText(z) != s || e != api.OK {
+			t.Errorf("P2: writing into a table changed a later one: %v, %d", z, e)
+		}
+		if whole(z) != before {
+			t.Errorf("P2: the spare room of a table is not new: %s, before %s", whole(z), before)
+		}
 	}
 }

@@ -3,6 +3,7 @@ package tailor
 
 import (
 	"tailor/api"
+	"tailor/code"
 	"tailor/table"
 )
 
@@ -21,10 +22,10 @@ func Compare(t api.Table, a string, b string, level int) (int, api.Errno) {
 func Key(t api.Table, s string, level int) (string, api.Errno) { return table.Key(t, s, level) }
 
 // Encode gives the text of a table (P7).
-func Encode(t api.Table) (string, api.Errno) { return "", api.OK }
+func Encode(t api.Table) (string, api.Errno) { return code.Encode(t) }
 
 // Decode gives the table that a text tells (P8).
-func Decode(s string) (api.Table, api.Errno) { return api.Table{}, api.OK }
+func Decode(s string) (api.Table, api.Errno) { return code.Decode(s) }
 
 // Read reads rules (P9).
 func Read(rules string) ([]api.Rule, api.Errno, int) { return nil, api.OK, 0 }

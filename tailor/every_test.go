@@ -4,6 +4,7 @@ import (
 	"fmt"
 	"math"
 	"reflect"
+	"slices"
 	"strings"
 	"testing"
 
@@ -48,9 +49,12 @@ func answers(x api.Table, a, b string, level int) []string {
 	s, ee := Encode(x)
 	y, de := Decode(s)
 	z, oe := Decode(a)
+	rules, re, at := Read(a)
+	text, we := Write(rules)
 	return []string{
 		fmt.Sprint(Valid(x)), fmt.Sprintf("%q %d", l, pe), fmt.Sprint(n, ce), fmt.Sprintf("%q %d", k, ke),
 		fmt.Sprintf("%q %d", s, ee), fmt.Sprint(y, de), fmt.Sprint(z, oe),
+		fmt.Sprint(rules, re, at), fmt.Sprintf("%q %d", text, we),
 	}
 }
 
@@ -103,7 +107,7 @@ func TestAnswersHangOnArgumentsAloneP2(t *testing.T) {
 	for round := range 3 {
 		i := 0
 		for _, x := range []api.Table{sample(), overlapping(), {}, tableOf([]api.Node{{}})} {
-			for _, a := range []string{"", "a", "ab", "abc", "a'b", "d"} {
+			for _, a := range []string{"", "a", "ab", "abc", "a'b", "d", "&a<b", "&[before 2]c<<<d/e=f", "&a<b]", "&abcdefg", "&"} {
 				for _, level := range []int{0, 1, 2, 3} {
 					l := answers(x, a, "a", level)
 					if round == 0 {
@@ -282,6 +286,73 @@ func TestTablesThatComeOutAreNewP2(t *testing.T) {
 		}
 		if whole(z) != before {
 			t.Errorf("P2: the spare room of a table is not new: %s, before %s", whole(z), before)
+		}
+	}
+}
+
+// lists are rules to hand to Write: such that can be written, and such that
+// are refused for a rule or for their length.
+func lists() [][]api.Rule {
+	good := ruleOf("a", 0, 1, "b", "")
+	return [][]api.Rule{
+		nil, sampleList(), {good}, {ruleOf(" &<", 1, 1, "=/[", `]\`), good, good},
+		{ruleOf("", 0, 1, "b", ""), good}, {good, ruleOf("", 1, 1, "b", "")}, {good, ruleOf("a", 0, 1, "abcd", "")},
+		slices.Repeat([]api.Rule{good}, 30), slices.Repeat([]api.Rule{good}, 31),
+	}
+}
+
+// TestRulesHandedInStayP2: Write does not write into the list that is handed
+// in, nor behind it, and what stands behind it is not read.
+func TestRulesHandedInStayP2(t *testing.T) {
+	for _, l := range lists() {
+		want, wantE := Write(slices.Clone(l))
+		for _, mark := range []api.Rule{ruleOf("mark", 7, 7, "mark", "mark"), ruleOf("m", 0, 1, "m", "")} {
+			room := append(slices.Clone(l), mark, mark)
+			before := slices.Clone(room)
+			if s, e := Write(room[:len(l)]); s != want || e != wantE {
+				t.Errorf("P2: Write with spare room behind the list: %q, %d, want %q, %d", s, e, want, wantE)
+			}
+			if !slices.Equal(room, before) {
+				t.Errorf("P2: Write has written into %v, before %v", room, before)
+			}
+		}
+	}
+}
+
+// TestRulesAreNotKeptP2: rules that the caller changes after a call are written
+// as they are then.
+func TestRulesAreNotKeptP2(t *testing.T) {
+	l := sampleList()
+	Write(l)
+	l[0] = ruleOf("b", 2, 2, "y", "z")
+	l[3].Text = "="
+	if s, e := Write(l); s != "&[before 2]b<<y/z<<<X&[before 1]c<ch/c=\\=" || e != api.OK {
+		t.Errorf("P2: Write after a change: %q, %d", s, e)
+	}
+}
+
+func scribbleRules(l []api.Rule) {
+	l = l[:cap(l)]
+	for i := range l {
+		l[i] = ruleOf("scribble", -77, -77, "scribble", "scribble")
+	}
+}
+
+// TestRulesThatComeOutAreNewP2: the caller may write into rules that came out,
+// into their spare room too, and no other answer changes.
+func TestRulesThatComeOutAreNewP2(t *testing.T) {
+	for _, s := range []string{"", sampleRules, "&a<b", "&a<b&c<d", "&a<b<c&d<e<f<g", strings.Repeat("&a<b", 30), "&a" + strings.Repeat("=b", 59)} {
+		want, _, _ := plainRead(s)
+		l, _, _ := Read(s)
+		m, _, _ := Read(s)
+		spare := slices.Clone(m[:cap(m)])
+		scribbleRules(l)
+		if !slices.Equal(m, want) || !slices.Equal(m[:cap(m)], spare) {
+			t.Errorf("P2: writing into one answer changed another: %v", m[:cap(m)])
+		}
+		again, e, _ := Read(s)
+		if !slices.Equal(again, want) || e != api.OK || !slices.Equal(again[:cap(again)], spare) {
+			t.Errorf("P2: writing into an answer changed a later one: %v", again[:cap(again)])
 		}
 	}
 }

@@ -4,6 +4,7 @@ package tailor
 import (
 	"tailor/api"
 	"tailor/code"
+	"tailor/rule"
 	"tailor/table"
 )
 
@@ -28,10 +29,10 @@ func Encode(t api.Table) (string, api.Errno) { return code.Encode(t) }
 func Decode(s string) (api.Table, api.Errno) { return code.Decode(s) }
 
 // Read reads rules (P9).
-func Read(rules string) ([]api.Rule, api.Errno, int) { return nil, api.OK, 0 }
+func Read(rules string) ([]api.Rule, api.Errno, int) { return rule.Read(rules) }
 
 // Write writes rules (P10).
-func Write(l []api.Rule) (string, api.Errno) { return "", api.OK }
+func Write(l []api.Rule) (string, api.Errno) { return rule.Write(l) }
 
 // Compile makes a new table by rules (P11, P12).
 func Compile(t api.Table, rules string) (api.Table, api.Errno, int) {

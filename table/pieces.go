@@ -59,19 +59,30 @@ func standsAt(text string, s string, at int) bool {
 	return s[at:at+len(text)] == text
 }
 
+// Numbers gives the numbers of the nodes of a text by entries, or false if the
+// text has no pieces.
+func Numbers(entries []api.Entry, s string) ([]int, bool) {
+	found, ok := cut(entries, s)
+	if !ok {
+		return nil, false
+	}
+	var numbers []int
+	for i := 0; i < len(found); i++ {
+		numbers = append(numbers, found[i].Nodes...)
+	}
+	return numbers, true
+}
+
 // nodesOf gives the nodes of a text by a valid table, or false if the text has
 // no pieces.
 func nodesOf(t api.Table, s string) ([]api.Node, bool) {
-	found, ok := cut(t.Entries, s)
+	numbers, ok := Numbers(t.Entries, s)
 	if !ok {
 		return nil, false
 	}
 	var nodes []api.Node
-	for i := 0; i < len(found); i++ {
-		numbers := found[i].Nodes
-		for k := 0; k < len(numbers); k++ {
-			nodes = append(nodes, t.Nodes[numbers[k]])
-		}
+	for i := 0; i < len(numbers); i++ {
+		nodes = append(nodes, t.Nodes[numbers[i]])
 	}
 	return nodes, true
 }

@@ -19,17 +19,18 @@ func Valid(t api.Table) api.Errno {
 
 func validNodes(nodes []api.Node) bool {
 	for i := 0; i < len(nodes); i++ {
-		if !isNode(nodes[i]) {
+		if !IsNode(nodes[i]) {
 			return false
 		}
-		if i > 0 && !isAbove(nodes[i], nodes[i-1]) {
+		if i > 0 && !IsAbove(nodes[i], nodes[i-1]) {
 			return false
 		}
 	}
 	return true
 }
 
-func isNode(n api.Node) bool {
+// IsNode tells whether weights are those of a node.
+func IsNode(n api.Node) bool {
 	if n.P < 0 || n.P > api.MaxWeight {
 		return false
 	}
@@ -42,7 +43,8 @@ func isNode(n api.Node) bool {
 	return n.P == 0 || n.S > 0
 }
 
-func isAbove(n api.Node, before api.Node) bool {
+// IsAbove tells whether a node is above another one.
+func IsAbove(n api.Node, before api.Node) bool {
 	if n.P != before.P {
 		return n.P > before.P
 	}
@@ -50,6 +52,18 @@ func isAbove(n api.Node, before api.Node) bool {
 		return n.S > before.S
 	}
 	return n.T > before.T
+}
+
+// Strength gives the strength of a node as to another one before it. As to
+// nothing it is the one as to the node of weights 0.
+func Strength(n api.Node, before api.Node) int {
+	if n.P != before.P {
+		return 1
+	}
+	if n.S != before.S {
+		return 2
+	}
+	return 3
 }
 
 func validEntries(entries []api.Entry, nodeCount int) bool {

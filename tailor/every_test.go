@@ -3,6 +3,7 @@ package tailor
 import (
 	"fmt"
 	"math"
+	"math/rand"
 	"reflect"
 	"slices"
 	"strings"
@@ -51,10 +52,12 @@ func answers(x api.Table, a, b string, level int) []string {
 	z, oe := Decode(a)
 	rules, re, at := Read(a)
 	text, we := Write(rules)
+	u, me, place := Compile(x, a)
 	return []string{
 		fmt.Sprint(Valid(x)), fmt.Sprintf("%q %d", l, pe), fmt.Sprint(n, ce), fmt.Sprintf("%q %d", k, ke),
 		fmt.Sprintf("%q %d", s, ee), fmt.Sprint(y, de), fmt.Sprint(z, oe),
 		fmt.Sprint(rules, re, at), fmt.Sprintf("%q %d", text, we),
+		fmt.Sprint(u, me, place),
 	}
 }
 
@@ -107,7 +110,7 @@ func TestAnswersHangOnArgumentsAloneP2(t *testing.T) {
 	for round := range 3 {
 		i := 0
 		for _, x := range []api.Table{sample(), overlapping(), {}, tableOf([]api.Node{{}})} {
-			for _, a := range []string{"", "a", "ab", "abc", "a'b", "d", "&a<b", "&[before 2]c<<<d/e=f", "&a<b]", "&abcdefg", "&"} {
+			for _, a := range []string{"", "a", "ab", "abc", "a'b", "d", "&a<b", "&[before 2]c<<<d/e=f", "&a<b]", "&abcdefg", "&", "&[before 1]b<a=x/b", "&ab<<x<a<<<ab"} {
 				for _, level := range []int{0, 1, 2, 3} {
 					l := answers(x, a, "a", level)
 					if round == 0 {
@@ -247,6 +250,23 @@ func scribbleTable(x api.Table) {
 	}
 }
 
+// checkNoSharedRoom writes into the nodes of each entry, into their spare room
+// too, and looks that no other list of the table changes.
+func checkNoSharedRoom(t *testing.T, x api.Table) {
+	t.Helper()
+	for i, written := range x.Entries {
+		before := rooms(x)
+		scribbleNumbers(written.Nodes)
+		after := rooms(x)
+		for k := range before {
+			// The list of entries shows the numbers too.
+			if k != 1 && k != i+2 && before[k] != after[k] {
+				t.Errorf("P2: the nodes of %q share room with list %d: %s, before %s", written.Text, k, after[k], before[k])
+			}
+		}
+	}
+}
+
 // TestListsOfATableShareNoRoomP2: of a table that comes out, what is written
 // into one list, or into its spare room, changes no other one.
 func TestListsOfATableShareNoRoomP2(t *testing.T) {
@@ -255,16 +275,11 @@ func TestListsOfATableShareNoRoomP2(t *testing.T) {
 		if e != api.OK {
 			t.Fatalf("Decode(%x): %d", s, e)
 		}
-		for i, changed := range x.Entries {
-			before := rooms(x)
-			scribbleNumbers(changed.Nodes)
-			after := rooms(x)
-			for k := range before {
-				// The list of entries shows the numbers too.
-				if k != 1 && k != i+2 && before[k] != after[k] {
-					t.Errorf("P2: the nodes of %q share room with list %d: %s, before %s", changed.Text, k, after[k], before[k])
-				}
-			}
+		checkNoSharedRoom(t, x)
+	}
+	for _, c := range compiles() {
+		if x, e, _ := Compile(c.x, c.rules); e == api.OK {
+			checkNoSharedRoom(t, x)
 		}
 	}
 }
@@ -287,6 +302,106 @@ func TestTablesThatComeOutAreNewP2(t *testing.T) {
 		if whole(z) != before {
 			t.Errorf("P2: the spare room of a table is not new: %s, before %s", whole(z), before)
 		}
+	}
+}
+
+// compiling is a table and rules to hand to Compile.
+type compiling struct {
+	x     api.Table
+	rules string
+}
+
+// compiles are tables and rules: such that make a table, with new nodes, new
+// entries, both or neither, and such that are refused at each step.
+func compiles() []compiling {
+	var l []compiling
+	for _, x := range []api.Table{{}, sample(), overlapping(), steep(), fullTable(), apart(api.MaxNodes)} {
+		for _, rules := range []string{
+			"", " ", "&a=x", "&a=x=y=z=w", "&a=x/a", "&ab=x=y/b=a", "&a=a", "&a<<<x", "&a<x<<y<<<z=w", "&b<a&a<b", "&[before 1]b<x", "&[before 3]b<<<x<<<y", "&000=001", "&000=001=002=003",
+			"&a", "&a<abcd", "&d<x", "&a<x/q", "&a<x&[before 2]a<<y", "&a=x&aaaaaa=y", "&a=x&a<y", "&000=x", "&a<x<y<z<v<w<p<q<r<s",
+		} {
+			l = append(l, compiling{x, rules})
+		}
+	}
+	return l
+}
+
+// TestTableHandedToCompileStaysP2: Compile does not write into the table, nor
+// behind its lists, and what stands behind them is not read.
+func TestTableHandedToCompileStaysP2(t *testing.T) {
+	for _, c := range compiles() {
+		want, wantE, wantAt := plainCompile(c.x, c.rules)
+		x := roomy(c.x)
+		before := whole(x)
+		if y, e, at := Compile(x, c.rules); !sameTable(y, want) || e != wantE || at != wantAt {
+			t.Errorf("P2: Compile(%v, %q) with spare room behind the lists: %v, %d, %d", c.x, c.rules, y, e, at)
+		}
+		if after := whole(x); after != before {
+			t.Errorf("P2: Compile of %q has written into\n%s\nbefore\n%s", c.rules, after, before)
+		}
+	}
+}
+
+// TestCompiledTablesAreNewP2: what is written into the table that was handed
+// in does not change the one that came out, nor the other way round, and no
+// other answer changes.
+func TestCompiledTablesAreNewP2(t *testing.T) {
+	good := 0
+	for _, c := range compiles() {
+		x := roomy(c.x)
+		y, e, _ := Compile(x, c.rules)
+		z, _, _ := Compile(x, c.rules)
+		if e != api.OK {
+			continue
+		}
+		good++
+		handed, out := whole(x), whole(z)
+		scribbleTable(y)
+		if after := whole(x); after != handed {
+			t.Errorf("P2: writing into what Compile of %q gave changed what was handed in:\n%s\nbefore\n%s", c.rules, after, handed)
+		}
+		if after := whole(z); after != out {
+			t.Errorf("P2: writing into one answer of %q changed another:\n%s\nbefore\n%s", c.rules, after, out)
+		}
+		if again, _, _ := Compile(x, c.rules); whole(again) != out {
+			t.Errorf("P2: writing into an answer of %q changed a later one:\n%s\nbefore\n%s", c.rules, whole(again), out)
+		}
+		scribbleTable(x)
+		if after := whole(z); after != out {
+			t.Errorf("P2: writing into what was handed in changed what Compile of %q gave:\n%s\nbefore\n%s", c.rules, after, out)
+		}
+	}
+	if good < 30 {
+		t.Errorf("P2: %d tables came out alone", good)
+	}
+}
+
+// TestTableIsNotKeptP2: a table that the caller changes after a call is
+// compiled as it is then.
+func TestTableIsNotKeptP2(t *testing.T) {
+	x := sample()
+	Compile(x, "&a<x")
+	x.Nodes[1] = node(8, 8, 12)
+	x.Entries[2].Nodes[0] = 4
+	x.Entries[4].Text = "d"
+	checkAnswer(t, x, "&a<x&d=y", changed(x, puts([]int{5}, node(25, 8, 8)), entry("x", 5), entry("y", 4)))
+}
+
+// TestCompileOfOddArgumentsP1: every table and every text has an answer.
+func TestCompileOfOddArgumentsP1(t *testing.T) {
+	texts := append(oddTexts(), "&a<x", "&a=x/a", "&[before 1]a<x", "&[before 3]a<<<x", "&aaaaaa<x", "&000<001", "&a<\x00=\xff\xff\xff", "&a"+strings.Repeat("<b", 59), "&a"+strings.Repeat("=a/a", 29), strings.Repeat("&a<<<a", 20))
+	for _, x := range oddTables() {
+		for _, s := range texts {
+			checkCompile(t, x, s)
+			if y, e, _ := Compile(x, s); e != api.OK && (len(y.Nodes) > 0 || len(y.Entries) > 0) {
+				t.Errorf("P1: Compile(%.200v, %.130q) = %v, %d", x, s, y, e)
+			}
+		}
+	}
+	r := rand.New(rand.NewSource(15))
+	for range 5000 {
+		checkCompile(t, wideTable(r), plainWrite(randomRules(r)))
+		checkCompile(t, sample(), randomBytes(r, r.Intn(api.MaxRules+4)))
 	}
 }
 

@@ -4,6 +4,7 @@ package tailor
 import (
 	"tailor/api"
 	"tailor/code"
+	"tailor/compile"
 	"tailor/rule"
 	"tailor/table"
 )
@@ -36,5 +37,5 @@ func Write(l []api.Rule) (string, api.Errno) { return rule.Write(l) }
 
 // Compile makes a new table by rules (P11, P12).
 func Compile(t api.Table, rules string) (api.Table, api.Errno, int) {
-	return api.Table{}, api.OK, 0
+	return compile.Compile(t, rules)
 }
